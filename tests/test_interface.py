@@ -1,0 +1,44 @@
+"""The interface: what stands in which file, the names of arguments, methods in the body of their class."""
+
+import importlib
+import inspect
+import unittest
+
+FUNCTIONS = {
+    "wheres": {"is_where": "left right value", "cells": "left right where"},
+}
+CLASSES = {
+    "tables": {"Table": {
+        "__init__": "self counts", "of_rows": "left right rows", "count": "self left right", "lefts": "self",
+        "rights": "self", "turned": "self", "each": "self", "__contains__": None, "__add__": None, "__sub__": None,
+        "__mul__": None, "__eq__": None, "counts": property, "left": property, "right": property, "total": property,
+    }},
+}
+
+
+def names(function):
+    return " ".join(inspect.signature(function).parameters)
+
+
+class Interface(unittest.TestCase):
+
+    def test_functions(self):
+        for file, functions in FUNCTIONS.items():
+            module = importlib.import_module(f"surecounts.{file}")
+            for name, given in functions.items():
+                function = vars(module)[name]
+                self.assertTrue(inspect.isfunction(function), name)
+                self.assertEqual((function.__module__, names(function)), (f"surecounts.{file}", given))
+
+    def test_classes(self):
+        for file, classes in CLASSES.items():
+            module = importlib.import_module(f"surecounts.{file}")
+            for name, methods in classes.items():
+                made = vars(module)[name]
+                self.assertEqual(made.__module__, f"surecounts.{file}")
+                for method, given in methods.items():
+                    self.assertIn(method, vars(made), (name, method))
+                    if given is property:
+                        self.assertIsInstance(vars(made)[method], property, (name, method))
+                    elif given is not None:
+                        self.assertEqual(names(getattr(made, method)), given, (name, method))
