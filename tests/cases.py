@@ -13,8 +13,8 @@ class Agreeing:
 
 
 # Nothing of this is an integer, a tuple of integers or an object of the package.
-ODD = [None, True, False, "", "0", "1", "all", b"1", (), [], [0], {}, {0: 1}, (None,), (True,), ((),), ([],), (((0,),),),
-       [(0,)], "a b", object(), Agreeing(), int, range(3)]
+ODD = [None, True, False, "", "0", "1", "all", b"1", (), [], [0], {}, {0: 1}, (None,), (True,), ((),), ([],),
+       (((0,),),), [(0,)], "a b", object(), Agreeing(), int, range(3)]
 
 LONG = 10 ** 59 + 7
 

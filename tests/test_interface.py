@@ -6,12 +6,24 @@ import unittest
 
 FUNCTIONS = {
     "wheres": {"is_where": "left right value", "cells": "left right where"},
+    "texts": {"write_facts": "facts", "write_table": "table", "read_facts": "text", "read_table": "text"},
+    "language": {"read_question": "left right text", "write_question": "question"},
 }
 CLASSES = {
     "tables": {"Table": {
         "__init__": "self counts", "of_rows": "left right rows", "count": "self left right", "lefts": "self",
         "rights": "self", "turned": "self", "each": "self", "__contains__": None, "__add__": None, "__sub__": None,
         "__mul__": None, "__eq__": None, "counts": property, "left": property, "right": property, "total": property,
+    }},
+    "facts": {"Facts": {
+        "__init__": "self left right facts", "fact": "self index", "without": "self index", "listed": "self",
+        "with_fact": "self fact", "over": "self left right", "limits": "self where", "__call__": "self table",
+        "__and__": None, "__contains__": None, "__len__": None, "__eq__": None, "left": property, "right": property,
+    }},
+    "questions": {"Question": {
+        "__init__": "self weights", "at": "left right where", "between": "lefts rights", "weight": "self left right",
+        "turned": "self", "__call__": "self table", "__add__": None, "__sub__": None, "__mul__": None, "__neg__": None,
+        "__eq__": None, "weights": property, "left": property, "right": property,
     }},
 }
 

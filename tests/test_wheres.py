@@ -14,7 +14,7 @@ WHERES = [
     ("right", (0, 1)), ("cell", 0, 0), ("cell", 2, 1),
 ]
 NO_WHERES = [
-    *[value for value in ODD if value != ("all",)],
+    *ODD,
     ("all", 0), ("all", ()), ["all"], (["all"],), ("ALL",), ("any",), ("",), ("left",), ("right",), ("cell",),
     ("left", ()), ("left", (3,)), ("right", (2,)), ("left", (-1,)), ("left", (1, 0)), ("left", (1, 1)), ("left", [0]),
     ("left", 0), ("left", 0, 1), ("left", (0,), (1,)), ("right", (0, 1, 2)), ("right", (True,)), ("left", (0, True)),
@@ -22,7 +22,8 @@ NO_WHERES = [
     ("left", range(2)), ("right", ((0,),)), ["left", (0,)], ("left", (LONG,)), ("left", (0, 0, 1)), ("left", (0, 2, 1)),
     ("cell", 0), ("cell", 0, 0, 0), ("cell", (0, 0)), ("cell", 3, 0), ("cell", 0, 2), ("cell", -1, 0), ("cell", 0, -1),
     ("cell", True, 0), ("cell", 0, False), ("cell", "0", 0), ("cell", 0, None), ["cell", 0, 0], ("cell", 0, (0,)),
-    (0, 0), (b"all",), (None,), (Agreeing(),), ("left", (Agreeing(),)), ("left", Agreeing()), ("cell", Agreeing(), 0),
+    ("any", 0, 0), ("any", (0,)), ("cells", 0, 0), (0, 0), (b"all",), (None,), (Agreeing(),),
+    ("left", (Agreeing(),)), ("left", Agreeing()), ("cell", Agreeing(), 0),
     ("cell", 0, Agreeing()), (Agreeing(), (0,)), (Agreeing(), 0, 0), "all", ("left", tuple(range(9))),
 ]
 
