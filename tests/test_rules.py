@@ -11,20 +11,22 @@ TREES = {path.name: ast.parse(path.read_text(encoding="ascii")) for path in FILE
 BUILTINS = """len range enumerate zip min max sum abs sorted reversed int str bool bytes list tuple dict set frozenset
     isinstance ord repr any all divmod iter next Exception ValueError TypeError KeyError IndexError LookupError
     ZeroDivisionError ArithmeticError OverflowError RuntimeError NotImplementedError NotImplemented""".split()
-DECORATORS = ("property", "classmethod", "staticmethod")
-SPECIAL = """__init__ __eq__ __repr__ __str__ __len__ __enter__ __exit__ __call__ __add__ __sub__ __mul__ __and__
-    __neg__ __contains__""".split()
+SPECIAL = """__init__ __eq__ __repr__ __str__ __len__ __enter__ __exit__ __call__ __iter__ __lt__ __le__ __gt__ __ge__
+    __ne__ __add__ __sub__ __mul__ __floordiv__ __mod__ __pow__ __and__ __or__ __xor__ __lshift__ __rshift__ __neg__
+    __pos__ __invert__ __abs__ __bool__ __contains__ __getitem__ __setitem__""".split()
 LIBRARY = {"heapq": ["heappush", "heappop", "heapify", "heapreplace", "heappushpop"],
            "math": ["gcd", "lcm", "isqrt", "comb", "perm", "factorial"],
            "itertools": ["product", "combinations", "permutations"]}
-BARRED = """register mro elements open input law version_info with_traceback add_note type typing enum Enum Generic
-    Protocol ABC namedtuple NamedTuple TypedDict abstractmethod getattr setattr hasattr vars dir eval exec globals
-    locals id help super os sys gc print chr map filter float complex object hash""".split()
+NOWHERE = "register mro elements open input law version_info with_traceback add_note format format_map".split()
+BARRED = """type typing enum Enum Generic Protocol ABC namedtuple NamedTuple TypedDict abstractmethod getattr setattr
+    delattr hasattr vars dir eval exec compile globals locals id help super os sys gc exit quit print chr map filter
+    float complex object hash callable slice round pow hex oct bin memoryview bytearray TimeoutError""".split() + NOWHERE
 METHODS = """append clear copy count endswith extend find get index insert isalnum isalpha isdigit islower isspace
     isupper items join keys ljust lower lstrip partition pop remove replace reverse rfind rjust rpartition rsplit
-    rstrip setdefault split splitlines startswith strip update upper values zfill bit_length isascii""".split()
-STATEMENTS = (ast.Global, ast.AsyncFunctionDef, ast.AsyncFor, ast.AsyncWith, ast.Delete, ast.Try, ast.With, ast.Match,
-              ast.Set, ast.SetComp, ast.GeneratorExp, ast.Lambda, ast.AnnAssign, ast.NamedExpr, ast.Div, ast.Await)
+    rstrip setdefault split splitlines startswith strip update upper values zfill bit_length title capitalize swapcase
+    casefold center expandtabs removeprefix removesuffix rindex isascii isdecimal isnumeric istitle isidentifier
+    isprintable encode decode hex translate maketrans add discard""".split()
+NO_SYNTAX = (ast.Global, ast.AsyncFunctionDef, ast.AsyncFor, ast.AsyncWith, ast.Await, ast.Div)
 
 
 def nodes(kind):
@@ -108,16 +110,17 @@ class Rules(unittest.TestCase):
             self.assertNotIn(node.id, BARRED, (name, node.lineno))
             self.assertFalse(node.id == "_" and isinstance(node.ctx, ast.Load), (name, node.lineno))
         for name, node in nodes(ast.Attribute):
-            self.assertNotIn(node.attr, BARRED, (name, node.lineno))
+            self.assertNotIn(node.attr, NOWHERE, (name, node.lineno))
             self.assertFalse(node.attr.startswith("__"), (name, node.lineno))
 
     def test_statements_and_expressions(self):
-        for name, node in nodes(STATEMENTS):
+        for name, node in nodes(NO_SYNTAX):
             self.fail((name, node))
         for name, node in nodes(ast.Compare):
             for sign, other in zip(node.ops, node.comparators):
                 if isinstance(sign, (ast.Is, ast.IsNot)):
-                    self.assertIn(other.value, (None, True, False), (name, node.lineno))
+                    sides = [getattr(side, "value", getattr(side, "id", 0)) for side in (node.left, other)]
+                    self.assertTrue({None, True, False, "self"} & set(sides), (name, node.lineno))
         for name, node in nodes(ast.Constant):
             self.assertNotIsInstance(node.value, (float, complex), (name, node.lineno))
             if isinstance(node.value, str):
@@ -125,14 +128,26 @@ class Rules(unittest.TestCase):
 
     def test_errors_are_created_where_they_are_raised(self):
         for name, node in nodes(ast.Raise):
-            self.assertIsInstance(node.exc, ast.Call, (name, node.lineno))
-            self.assertIsInstance(node.exc.func, ast.Name, (name, node.lineno))
+            if node.exc is not None:
+                self.assertIsInstance(node.exc, ast.Call, (name, node.lineno))
+                self.assertIsInstance(node.exc.func, ast.Name, (name, node.lineno))
+
+    def test_generator_expressions_stand_in_list_tuple_or_dict(self):
+        # The classes have __eq__, so that any, all, min, max, sum and sorted take lists.
+        allowed = [id(node.args[0]) for _, node in nodes(ast.Call) if node.args
+                   and isinstance(node.func, ast.Name) and node.func.id in ("list", "tuple", "dict")]
+        for name, node in nodes(ast.GeneratorExp):
+            self.assertIn(id(node), allowed, (name, node.lineno))
+
+    def test_no_list_is_sorted_in_its_place(self):
+        for name, node in nodes(ast.Attribute):
+            self.assertNotEqual(node.attr, "sort", (name, node.lineno))
 
     def test_decorators_and_methods(self):
         for name, node in nodes(ast.FunctionDef):
             self.assertLessEqual(len(node.decorator_list), 1)
             for mark in node.decorator_list:
-                self.assertIn(mark.id, DECORATORS, (name, node.name))
+                self.assertRegex(ast.unparse(mark), r"\A(property|classmethod|staticmethod|[a-z]+[.]setter)\Z")
             if node.name.startswith("__"):
                 self.assertIn(node.name, SPECIAL, (name, node.lineno))
         own = [node.name for _, node in nodes(ast.FunctionDef)]
