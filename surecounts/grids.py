@@ -19,6 +19,11 @@ def is_grid(value):
     return all([len(line) == len(value[0]) for line in value])
 
 
+def zero_grid(left, right):
+    """The grid with 0 everywhere."""
+    return ((0,) * right,) * left
+
+
 def grid_sum(one, other):
     """The grid of the sums of two grids of the same sizes, cell by cell."""
     return tuple([tuple([a + b for a, b in zip(line, row)]) for line, row in zip(one, other)])

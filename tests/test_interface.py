@@ -8,6 +8,13 @@ FUNCTIONS = {
     "wheres": {"is_where": "left right value", "cells": "left right where"},
     "texts": {"write_facts": "facts", "write_table": "table", "read_facts": "text", "read_table": "text"},
     "language": {"read_question": "left right text", "write_question": "question"},
+    "ends": {"fitting": "facts", "greatest": "facts question", "least": "facts question", "ends": "facts question"},
+    "papers": {"upper": "facts question prices", "lower": "facts question prices",
+               "is_greatest": "facts question value", "is_least": "facts question value"},
+    "contradictions": {"contradiction": "facts", "is_contradiction": "facts value", "least_part": "facts"},
+    "spreads": {"steep": "rows different most", "level": "rows different"},
+    "joins": {"greatest_join": "one other", "least_join": "one other", "greatest_along": "keys spreads",
+              "least_along": "keys spread", "tops": "spread", "join_bound": "one other first second"},
 }
 CLASSES = {
     "tables": {"Table": {
@@ -24,6 +31,19 @@ CLASSES = {
         "__init__": "self weights", "at": "left right where", "between": "lefts rights", "weight": "self left right",
         "turned": "self", "__call__": "self table", "__add__": None, "__sub__": None, "__mul__": None, "__neg__": None,
         "__eq__": None, "weights": property, "left": property, "right": property,
+    }},
+    "spreads": {"Spread": {
+        "__init__": "self size rows different most", "pairs": "self", "narrowed": "self", "greatest_in": "self many",
+        "least_in": "self many", "grown": "self known", "shrunk": "self last", "__contains__": None, "__and__": None,
+        "__eq__": None, "size": property, "rows": property, "different": property, "most": property,
+    }},
+    "chains": {"Chain": {
+        "__init__": "self before facts behind", "question": "self start stop", "whole": "self start stop",
+        "answers": "self start stop table", "__len__": None, "kept": property, "facts": property,
+    }},
+    "stars": {"Star": {
+        "__init__": "self keys columns", "greatest": "self members", "answers": "self members columns",
+        "__len__": None,
     }},
 }
 
