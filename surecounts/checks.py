@@ -20,6 +20,13 @@ def is_below(size, value):
     return is_whole(value) and 0 <= value < size
 
 
+def is_ascending(size, value):
+    """Whether any value is a tuple of different integers from 0 to size - 1, ascending."""
+    if not isinstance(value, tuple) or not all([is_below(size, entry) for entry in value]):
+        return False
+    return all([low < high for low, high in zip(value, value[1:])])
+
+
 def is_size(value):
     """Whether any value is the size of a column."""
     return is_whole(value) and 1 <= value <= MOST_VALUES

@@ -1,6 +1,6 @@
 """Contradictions: facts that no table fits, and why."""
 
-from surecounts.checks import is_below
+from surecounts.checks import is_ascending
 from surecounts.facts import is_true
 from surecounts.flows import solve
 from surecounts.grids import zero_grid
@@ -44,13 +44,6 @@ def contradiction(facts):
     return (tuple(part), prices, tuple(tables))
 
 
-def is_part(facts, value):
-    """Whether any value is an ascending tuple of indexes of facts."""
-    if not isinstance(value, tuple) or not all([is_below(len(facts), index) for index in value]):
-        return False
-    return all([low < high for low, high in zip(value, value[1:])])
-
-
 def fits_others(facts, part, index, value):
     """Whether any value is a table that fits the facts of a part but one."""
     if not is_table(facts.left, facts.right, value):
@@ -63,7 +56,7 @@ def is_contradiction(facts, value):
     if not isinstance(value, tuple) or len(value) != 3:
         return False
     part, prices, tables = value
-    if not is_part(facts, part) or not isinstance(tables, tuple) or len(tables) != len(part):
+    if not is_ascending(len(facts), part) or not isinstance(tables, tuple) or len(tables) != len(part):
         return False
     number = upper(facts, Question(zero_grid(facts.left, facts.right)), prices)
     if number is None or number >= 0:

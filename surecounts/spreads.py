@@ -28,7 +28,7 @@ def is_possible(rows, different, most):
 def least_greatest(rows, different, most):
     """The limits of the rows with so many different values; they cross if no pair is possible."""
     if different == 0:
-        return (rows[0], 0)
+        return (rows[0], min(rows[1], 0))
     return (max(rows[0], different), rows[1] if most is None else min(rows[1], different * most))
 
 
@@ -54,8 +54,8 @@ def level_heights(rows, different):
     """The heights of level for a possible pair."""
     if different == 0:
         return ()
-    each, more = divmod(rows, different)
-    return (each + 1,) * more + (each,) * (different - more)
+    share, more = divmod(rows, different)
+    return (share + 1,) * more + (share,) * (different - more)
 
 
 def padded(heights, size):
@@ -91,7 +91,7 @@ def level(rows, different):
 
 def most_rows_in(many, rows, different, most):
     """The greatest number of rows that so many values can have, for a possible pair."""
-    if different <= many:
+    if different < many:
         return rows
     if many == 0:
         return 0
@@ -127,7 +127,7 @@ def lesser_most(most, other):
 
 
 def moved(limits, steps):
-    """Limits behind a step of each of them; a low not below 0."""
+    """Limits behind a step of each of them; a low not below 0. Nothing is within a high below 0."""
     return (max(0, limits[0] + steps[0]), limits[1] + steps[1])
 
 
@@ -232,7 +232,7 @@ class Spread:
         rows = moved(self._rows, row_steps)
         different = moved(self._different, different_steps)
         most = None if self._most is None else self._most + more
-        if min(rows[1], different[1]) < 0 or len(possible_pairs(self._size, rows, different, most)) == 0:
+        if len(possible_pairs(self._size, rows, different, most)) == 0:
             raise Contradictory((self._size, self._rows, self._different, self._most))
         return Spread(self._size, rows, different, most)
 
@@ -249,7 +249,7 @@ class Spread:
         rows = common_limits(self._rows, other._rows)
         different = common_limits(self._different, other._different)
         most = lesser_most(self._most, other._most)
-        if rows[0] > rows[1] or len(possible_pairs(self._size, rows, different, most)) == 0:
+        if len(possible_pairs(self._size, rows, different, most)) == 0:
             raise Contradictory((self._size, rows, different, most))
         return Spread(self._size, rows, different, most)
 

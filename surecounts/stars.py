@@ -1,6 +1,6 @@
 """Stars: columns whose heights are known, and kept columns with a spread for each bucket, all joined on one value."""
 
-from surecounts.checks import is_below
+from surecounts.checks import is_ascending
 from surecounts.errors import InvalidColumn, InvalidMembers
 from surecounts.joins import greatest_along, is_column, products_of, sum_of_products
 from surecounts.spreads import Spread, is_heights
@@ -58,15 +58,6 @@ def check_star(keys, columns):
         raise InvalidColumn("sizes")
 
 
-def is_members(many, value):
-    """Whether any value is an ascending tuple of at least one of so many members."""
-    if not isinstance(value, tuple) or len(value) == 0:
-        return False
-    if not all([is_below(many, member) for member in value]):
-        return False
-    return all([low < high for low, high in zip(value, value[1:])])
-
-
 def fits(column, value):
     """Whether any value is heights of all values that fit the spreads of a kept column."""
     places = places_of(column)
@@ -113,7 +104,7 @@ class Star:
 
     def _check_members(self, members):
         """Raises InvalidMembers with any value that is no ascending tuple of at least one member."""
-        if not is_members(len(self._members), members):
+        if not is_ascending(len(self._members), members) or len(members) == 0:
             raise InvalidMembers(members)
 
     def __len__(self):

@@ -1,16 +1,12 @@
 """Wheres: tuples that stand for some cells of a table."""
 
-from surecounts.checks import check_sizes, is_below
+from surecounts.checks import check_sizes, is_ascending, is_below
 from surecounts.errors import InvalidFact
 
 
 def is_values(size, value):
     """Whether any value is a nonempty tuple of different values of a column, ascending."""
-    if not isinstance(value, tuple) or len(value) == 0:
-        return False
-    if not all([is_below(size, entry) for entry in value]):
-        return False
-    return all([low < high for low, high in zip(value, value[1:])])
+    return is_ascending(size, value) and len(value) > 0
 
 
 def has_where_form(left, right, value):

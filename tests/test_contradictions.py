@@ -122,6 +122,15 @@ class Checked(Case):
             self.same(is_contradiction(self.facts, (part, prices, given)), False)
             self.same(is_contradiction(self.facts, (part, prices, given[:2])), False)
 
+    def test_parts_in_another_order(self):
+        part, prices, given = self.good
+        for order in itertools.permutations(range(3)):
+            value = (order, prices, tuple(given[index] for index in order))
+            self.same(is_contradiction(self.facts, value), order == part)
+        for doubled in ((0, 0, 1, 2), (0, 1, 1, 2), (0, 1, 2, 2), (2, 0, 1, 2), (0, 1, 2, 0)):
+            value = (doubled, prices, tuple(given[index] for index in doubled))
+            self.same(is_contradiction(self.facts, value), False)
+
     def test_prices_that_are_none(self):
         part, _, given = self.good
         for prices in [*ODD, 0, [1, -1, -1], (1, -1), (1, -1, -1, 0), (1, -1, 0), (0, 0, 0), (1, 0, 0), (0, -1, -1),

@@ -155,7 +155,7 @@ class Checked(Case):
         self.same(is_least(facts, question, lowest), True)
         for value in self.bent(lowest):
             self.same(is_least(facts, question, value), False)
-        for value in ((9, Table(((3, 1),)), (2, 3)), (9, Table(((0, 2),)), (2, 3)), (11, Table(((3, 1),)), (2, 3)),
+        for value in ((9, Table(((3, 0),)), (2, 3)), (9, Table(((0, 1),)), (2, 3)), (9, Table(((3, 1),)), (2, 3)), (9, Table(((0, 2),)), (2, 3)), (11, Table(((3, 1),)), (2, 3)),
                       (9, Table(((2, 1), (0, 0))), (2, 3)), (6, Table(((3, 0),)), (2, 3)),
                       (9, ((2, 1),), (2, 3)), (9, Table(((2, 1),)), [2, 3]), (9, Table(((2, 1),)), (5, 0)),
                       (9, Table(((2, 1),)), (3, 0)), (9, Table(((2, 1),)), (2, 3, 0)), (9, Table(((2, 1),)), (2, True)),
