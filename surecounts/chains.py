@@ -3,7 +3,7 @@
 from surecounts.checks import is_whole
 from surecounts.errors import InvalidChain, InvalidMembers
 from surecounts.facts import Facts
-from surecounts.questions import Question, products
+from surecounts.questions import Question
 from surecounts.tables import Table, check_table
 
 MOST_TABLES = 6

@@ -75,6 +75,21 @@ class Rules(unittest.TestCase):
                            if isinstance(row, (ast.FunctionDef, ast.ClassDef, ast.Assign))]
                 self.assertIn(alias.name, defined, name)
 
+    def test_imports_are_used(self):
+        for name, tree in TREES.items():
+            read = [node.id for node in ast.walk(tree) if isinstance(node, ast.Name)]
+            for row in tree.body:
+                if isinstance(row, ast.ImportFrom):
+                    for alias in row.names:
+                        self.assertIn(alias.name, read, name)
+
+    def test_generators_have_names_of_their_own(self):
+        functions = [node for _, node in nodes(ast.FunctionDef)]
+        yielding = [node.name for node in functions if any(isinstance(row, (ast.Yield, ast.YieldFrom))
+                                                           for row in ast.walk(node))]
+        names = [place[2] for place in bound_names()]
+        self.assertEqual([(name, names.count(name)) for name in yielding], [(name, 1) for name in yielding])
+
     def test_no_circle_of_imports(self):
         needs = {name: {node.module.split(".")[1] + ".py" for node in tree.body if isinstance(node, ast.ImportFrom)
                         and node.module not in LIBRARY} for name, tree in TREES.items()}
