@@ -34,8 +34,8 @@ def least_greatest(rows, different, most):
 
 def possible_pairs(size, rows, different, most):
     """The list of the tuples (different, least rows, greatest rows) of all possible pairs within the limits."""
-    found = [(many, *least_greatest(rows, many, most)) for many in range(different[0], min(different[1], size) + 1)]
-    return [pair for pair in found if pair[1] <= pair[2]]
+    found = [(many, least_greatest(rows, many, most)) for many in range(different[0], min(different[1], size) + 1)]
+    return [(many, least, greatest) for many, (least, greatest) in found if least <= greatest]
 
 
 def steep_heights(rows, different, most):
