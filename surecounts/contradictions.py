@@ -1,6 +1,7 @@
 """Contradictions: facts that no table fits, and why."""
 
 from surecounts.checks import is_ascending
+from surecounts.errors import Contradictory
 from surecounts.facts import is_true
 from surecounts.flows import solve
 from surecounts.grids import zero_grid
@@ -71,3 +72,10 @@ def least_part(facts):
     # The facts are gone through from the first one there, too.
     found = contradiction(facts)
     return None if found is None else found[0]
+
+
+def check_fitting(facts):
+    """Raises Contradictory with the part of a contradiction if no table fits."""
+    found = contradiction(facts)
+    if found is not None:
+        raise Contradictory(found[0])

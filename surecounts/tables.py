@@ -28,6 +28,11 @@ def check_table(left, right, value):
         raise InvalidTable(value)
 
 
+def rows_at(left, right, cell, many):
+    """The table with so many rows in a cell, and no others."""
+    return Table(tuple([tuple([many if (a, b) == cell else 0 for b in range(right)]) for a in range(left)]))
+
+
 class Table:
     """A table that never changes."""
 

@@ -15,6 +15,10 @@ def dice(seed):
     return random.Random(seed)
 
 
+def any_table(given, left, right, most):
+    return Table(tuple(tuple(given.randint(0, most) for _ in range(right)) for _ in range(left)))
+
+
 def tables(left, right, most):
     """The list of all tables with two sizes and at most so many rows in a cell."""
     return [Table(tuple(counts[right * a:right * a + right] for a in range(left)))
@@ -168,3 +172,8 @@ def sum_of_products(*columns):
             product *= height
         total += product
     return total
+
+
+def column_heights(column):
+    """All heights of all values that fit the spreads of a column."""
+    return [sum(parts, ()) for parts in itertools.product(*[all_heights(told(spread)) for spread in column])]

@@ -9,14 +9,10 @@ from surecounts.facts import Facts
 from surecounts.questions import Question
 from surecounts.tables import Table
 from tests.cases import LONG, ODD, Agreeing, Case
-from tests.samples import dice, tables, true_facts
+from tests.samples import any_table, dice, tables, true_facts
 
 SQUARE = Table(((1, 2), (0, 3)))
 FACTS = Facts(2, 2, [(("all",), 1, 4)])
-
-
-def any_table(given, left, right, most):
-    return Table(tuple(tuple(given.randint(0, most) for _ in range(right)) for _ in range(left)))
 
 
 def any_chain(given, many, largest, most):

@@ -15,6 +15,10 @@ FUNCTIONS = {
     "spreads": {"steep": "rows different most", "level": "rows different"},
     "joins": {"greatest_join": "one other", "least_join": "one other", "greatest_along": "keys spreads",
               "least_along": "keys spread", "tops": "spread", "join_bound": "one other first second"},
+    "plans": {"plans": "joined", "results": "plan", "is_plan": "joined value", "worst": "joined plan",
+              "need": "joined plan given", "best": "joined", "report": "joined", "is_report": "joined value"},
+    "counts": {"wide": "facts question wheres width most", "fewest": "facts question wheres width most",
+               "is_enough": "facts questions kept", "least_facts": "facts questions most"},
 }
 CLASSES = {
     "tables": {"Table": {
@@ -45,11 +49,26 @@ CLASSES = {
         "__init__": "self keys columns", "greatest": "self members", "answers": "self members columns",
         "__len__": None,
     }},
+    "books": {"Book": {
+        "__init__": "self facts", "insert": "self left right many", "remove": "self left right many",
+        "recount": "self where number", "undo": "self", "history": "self", "applied": "self table", "copy": "self",
+        "attempt": "self visitor", "__len__": None, "__eq__": None, "facts": property,
+    }},
 }
+
+# What may be omitted; all other arguments have no default.
+DEFAULTS = {"wide": {"most": 500}, "fewest": {"most": 500}, "least_facts": {"most": 500}, "steep": {"most": None},
+            "Facts.__init__": {"facts": ()}, "Spread.__init__": {"most": None}, "Spread.grown": {"known": None},
+            "Spread.shrunk": {"last": None}, "Book.insert": {"many": 1}, "Book.remove": {"many": 1}}
 
 
 def names(function):
     return " ".join(inspect.signature(function).parameters)
+
+
+def defaults(function):
+    given = inspect.signature(function).parameters.values()
+    return {told.name: told.default for told in given if told.default is not told.empty}
 
 
 class Interface(unittest.TestCase):
@@ -61,6 +80,7 @@ class Interface(unittest.TestCase):
                 function = vars(module)[name]
                 self.assertTrue(inspect.isfunction(function), name)
                 self.assertEqual((function.__module__, names(function)), (f"surecounts.{file}", given))
+                self.assertEqual(defaults(function), DEFAULTS.get(name, {}), name)
 
     def test_classes(self):
         for file, classes in CLASSES.items():
@@ -74,3 +94,4 @@ class Interface(unittest.TestCase):
                         self.assertIsInstance(vars(made)[method], property, (name, method))
                     elif given is not None:
                         self.assertEqual(names(getattr(made, method)), given, (name, method))
+                        self.assertEqual(defaults(getattr(made, method)), DEFAULTS.get(f"{name}.{method}", {}), method)

@@ -6,7 +6,7 @@ from surecounts.errors import InvalidColumn, InvalidMembers
 from surecounts.spreads import Spread
 from surecounts.stars import Star
 from tests.cases import LONG, ODD, Agreeing, Case
-from tests.samples import all_heights, any_spread, dice, fits, sum_of_products, told
+from tests.samples import any_spread, column_heights, dice, fits, sum_of_products, told
 
 ONE = Spread(4, (10, 10), (3, 3))
 OTHER = Spread(4, (6, 6), (2, 2))
@@ -16,11 +16,6 @@ KEYS = (3, 0, 1, 1)
 def all_members(star):
     """All ascending tuples of at least one member."""
     return [members for many in range(1, len(star) + 1) for members in itertools.combinations(range(len(star)), many)]
-
-
-def column_heights(column):
-    """All heights of all values that fit the spreads of a column."""
-    return [sum(parts, ()) for parts in itertools.product(*[all_heights(told(spread)) for spread in column])]
 
 
 class Stars(Case):
