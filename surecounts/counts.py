@@ -38,6 +38,7 @@ def check_counts(facts, question, wheres, width, most):
     check_question(facts.left, facts.right, question)
     if not isinstance(wheres, list):
         raise InvalidFact(None)
+    # The class raises what is wrong with the wheres.
     Facts(facts.left, facts.right, facts.listed() + [(where, 0, None) for where in wheres])
     if not is_count(width):
         raise InvalidNumber(width)

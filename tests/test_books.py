@@ -4,7 +4,7 @@ import itertools
 
 from surecounts.books import Book
 from surecounts.contradictions import least_part
-from surecounts.ends import greatest
+from surecounts.ends import fitting, greatest
 from surecounts.errors import (Contradictory, InvalidFact, InvalidNumber, InvalidTable, MissingRows, NothingToUndo)
 from surecounts.facts import Facts
 from surecounts.questions import Question
@@ -35,11 +35,8 @@ def counts(found):
 
 def any_book(given, left, right, many, most):
     """A book whose facts are true of some table, and this table."""
-    while True:
-        facts = true_facts(given, left, right, many, most)
-        book = Book(facts)
-        table = greatest(facts, Question(((0,) * right,) * left))[1]
-        return (book, table)
+    facts = true_facts(given, left, right, many, most)
+    return (Book(facts), fitting(facts))
 
 
 def any_change(given, book, most):

@@ -19,6 +19,8 @@ FUNCTIONS = {
               "need": "joined plan given", "best": "joined", "report": "joined", "is_report": "joined value"},
     "counts": {"wide": "facts question wheres width most", "fewest": "facts question wheres width most",
                "is_enough": "facts questions kept", "least_facts": "facts questions most"},
+    "runs": {"walk": "chain plan table", "surprise": "chain plan table", "wrong": "chain table"},
+    "journal": {"write_journal": "book", "read_journal": "facts text"},
 }
 CLASSES = {
     "tables": {"Table": {
@@ -54,6 +56,11 @@ CLASSES = {
         "recount": "self where number", "undo": "self", "history": "self", "applied": "self table", "copy": "self",
         "attempt": "self visitor", "__len__": None, "__eq__": None, "facts": property,
     }},
+    "bench": {"Bench": {
+        "__init__": "self", "keep": "self name facts", "drop": "self name", "book": "self name", "names": "self",
+        "trial": "self", "attempt": "self visitor", "copy": "self", "__len__": None, "__eq__": None,
+    }},
+    "console": {"Console": {"__init__": "self", "run": "self command", "bench": property}},
 }
 
 # What may be omitted; all other arguments have no default.

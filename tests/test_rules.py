@@ -181,3 +181,34 @@ class Rules(unittest.TestCase):
             for node in ast.walk(tree):
                 if isinstance(node, ast.Name) and node.id in BUILTINS:
                     self.assertIn(id(node), called, (name, node.lineno))
+
+    def test_what_ends_a_trial_only_assigns(self):
+        for name, node in nodes(ast.FunctionDef):
+            if node.name == "__exit__":
+                for row in node.body:
+                    self.assertIsInstance(row, ast.Assign, (name, row.lineno))
+                    self.assertIsInstance(row.targets[0], ast.Attribute, (name, row.lineno))
+                    self.assertIsInstance(row.value, (ast.Constant, ast.Name, ast.Attribute), (name, row.lineno))
+
+    def test_products_are_iterated_at_once(self):
+        for name, tree in TREES.items():
+            heads = [part.iter for part in ast.walk(tree) if isinstance(part, (ast.For, ast.comprehension))]
+            taken = [alias.name for row in tree.body if isinstance(row, ast.ImportFrom) and row.module == "itertools"
+                     for alias in row.names]
+            for node in ast.walk(tree):
+                if isinstance(node, ast.Name) and node.id in taken:
+                    self.assertIn(id(node), [id(head.func) for head in heads if isinstance(head, ast.Call)],
+                                  (name, node.lineno))
+        # They do not stand beside objects that are iterated over and have a length.
+        self.assertNotIn("__iter__", [node.name for _, node in nodes(ast.FunctionDef)])
+
+    def test_tables_at_module_level_hold_no_lists_or_dicts(self):
+        for name, tree in TREES.items():
+            for row in tree.body:
+                if isinstance(row, ast.Assign):
+                    inner = [part for part in ast.walk(row.value) if part is not row.value]
+                    self.assertFalse([part for part in inner if isinstance(part, (ast.List, ast.Dict))], name)
+
+    def test_actions_of_a_table_are_named_before_they_are_called(self):
+        for name, node in nodes(ast.Call):
+            self.assertIsInstance(node.func, (ast.Name, ast.Attribute), (name, node.lineno))
